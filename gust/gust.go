@@ -1,4 +1,4 @@
-// Package gust: what a storm's workers do, over whatever answers as a map does: see doc/21-storm.md. Package storm hands in a map; by itself it can be held against one that refuses.
+// Package gust: what a storm's workers do, over whatever answers as a map does, and what is told of it: see doc/21-storm.md. Package storm hands in a map; by itself it can be held against one that refuses, and that went wrong.
 package gust
 
 import (

@@ -1,4 +1,4 @@
-package storm
+package gust
 
 import (
 	"skein/api"
@@ -7,8 +7,8 @@ import (
 	"skein/trie"
 )
 
-// report tells what came of a storm. It looks at the memory ahead of the pairs, as these are asked for by a snapshot, which loads the parts that nobody came to; and at the faults behind them, as their trees are read by the way.
-func report(s *store.Store, p api.Storm, events []api.Event) api.Report {
+// Report tells what came of a storm, of its map and its events, when all have ended. It looks at the memory ahead of the pairs, as these are asked for by a snapshot, which loads the parts that nobody came to; and at the faults behind them, as their trees are read by the way.
+func Report(s *store.Store, p Plan, events []api.Event) api.Report {
 	r := api.Report{Events: len(events), Used: used(s), Waiting: waiting(s, p.Workers)}
 	r.Pairs = pairs(s)
 	r.Faults = s.Pool().Faults()
